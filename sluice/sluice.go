@@ -1,0 +1,72 @@
+// Package sluice: small programs whose secrets do not run out: see DOC.md.
+package sluice
+
+import (
+	"sluice/api"
+	"sluice/lattice"
+	"sluice/program"
+)
+
+// Levels tells how many levels a table has (P3).
+func Levels(table string) (int, api.Errno) {
+	order, errno := lattice.Open(table)
+	return order.Levels, errno
+}
+
+// Join tells the join of two levels (P3).
+func Join(table string, a int, b int) (int, api.Errno) {
+	order, errno := openWith(table, a, b)
+	if errno != api.OK {
+		return 0, errno
+	}
+	level, _ := order.Join(a, b)
+	return level, api.OK
+}
+
+// Meet tells the meet of two levels (P3).
+func Meet(table string, a int, b int) (int, api.Errno) {
+	order, errno := openWith(table, a, b)
+	if errno != api.OK {
+		return 0, errno
+	}
+	level, _ := order.Meet(a, b)
+	return level, api.OK
+}
+
+// openWith reads a table that is a lattice and has both levels.
+func openWith(table string, a int, b int) (lattice.Table, api.Errno) {
+	order, errno := lattice.Open(table)
+	if errno != api.OK {
+		return lattice.Table{}, errno
+	}
+	if !order.Has(a) {
+		return lattice.Table{}, api.ErrNumber
+	}
+	if !order.Has(b) {
+		return lattice.Table{}, api.ErrNumber
+	}
+	return order, api.OK
+}
+
+// Scan tells what a file has (P4).
+func Scan(file string) (api.Info, api.Errno) {
+	parts, errno := program.Open(file)
+	if errno != api.OK {
+		return api.Info{}, errno
+	}
+	return parts.Info(), api.OK
+}
+
+// Check tells whether a file is let through (P5).
+func Check(file string) (int, api.Errno) { return 0, api.OK }
+
+// Run runs a file that is let through (P6).
+func Run(file string, tapes api.Tapes, fuel int) (api.Result, api.Errno) {
+	return api.Result{}, api.OK
+}
+
+// Translate makes a file of a source (P9).
+func Translate(source string) (string, int, api.Errno) { return "", 0, api.OK }
+
+// Compile makes a file of a source whose secrets do not run out (P10).
+func Compile(source string) (string, int, api.Errno) { return "", 0, api.OK }
