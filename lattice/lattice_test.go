@@ -128,6 +128,11 @@ func checkBounds(t *testing.T, text string, n int) {
 	}
 	under := func(a int, b int) bool { return text[a*n+b] == '1' }
 	for a := 0; a < n; a++ {
+		if !under(table.Bottom(), a) {
+			t.Errorf("%s: the bottom %d", text, table.Bottom())
+		}
+	}
+	for a := 0; a < n; a++ {
 		for b := 0; b < n; b++ {
 			join, hasJoin := table.Join(a, b)
 			meet, hasMeet := table.Meet(a, b)
@@ -173,6 +178,15 @@ func TestNoLevelOfTheTable(t *testing.T) {
 			if meet, ok := table.Meet(level, 0); meet != 0 || ok {
 				t.Errorf("%s: Meet(%d, 0) = %d, %t", text, level, meet, ok)
 			}
+		}
+	}
+}
+
+func TestNoBottom(t *testing.T) {
+	for _, text := range []string{"1001", "101011001"} {
+		table, _ := Read(text)
+		if bottom := table.Bottom(); bottom != 0 {
+			t.Errorf("%s: the bottom %d", text, bottom)
 		}
 	}
 }

@@ -91,6 +91,25 @@ func (t Table) Meet(a int, b int) (int, bool) {
 	return 0, false
 }
 
+// Bottom tells the bottom; 0, if the table has none.
+func (t Table) Bottom() int {
+	for a := 0; a < t.Levels; a++ {
+		if t.isBelowAll(a) {
+			return a
+		}
+	}
+	return 0
+}
+
+func (t Table) isBelowAll(a int) bool {
+	for b := 0; b < t.Levels; b++ {
+		if !t.Below(a, b) {
+			return false
+		}
+	}
+	return true
+}
+
 func (t Table) isJoin(a int, b int, c int) bool {
 	if !t.isAboveBoth(a, b, c) {
 		return false

@@ -51,6 +51,47 @@ func (f File) Instruction(place int) (int, int) {
 	return int(f.code[2*place]), int(f.code[2*place+1])
 }
 
+// Behind tells the places behind a place: one twice, where there are not two. Of
+// the end, which has none behind it, it answers the end.
+func (f File) Behind(place int) (int, int) {
+	operation, operand := f.Instruction(place)
+	switch operation {
+	case api.Jump:
+		return operand, operand
+	case api.Zero:
+		return place + 1, operand
+	}
+	return place + 1, place + 1
+}
+
+// Level tells the level of a variable; 0, if there is no such variable.
+func (f File) Level(variable int) int {
+	if variable < 0 || variable >= len(f.vars) {
+		return 0
+	}
+	return int(f.vars[variable])
+}
+
+// Pops tells how many values an operation pops.
+func Pops(operation int) int {
+	switch operation {
+	case api.Add, api.Sub, api.Mul, api.Less, api.Same:
+		return 2
+	case api.Store, api.Zero, api.Out:
+		return 1
+	}
+	return 0
+}
+
+// Pushes tells how many values an operation pushes.
+func Pushes(operation int) int {
+	switch operation {
+	case api.Store, api.Jump, api.Zero, api.Out:
+		return 0
+	}
+	return 1
+}
+
 func (f File) hasSoundCode() bool {
 	length := f.Length()
 	for place := 0; place < length; place++ {

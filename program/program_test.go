@@ -32,3 +32,29 @@ func TestErrorsLeaveNothing(t *testing.T) {
 		}
 	}
 }
+
+func TestBehind(t *testing.T) {
+	file, errno := Open("S\x011\x01\x00\x04\x09\x03\x08\x00\x02\x00\x09\x04")
+	if errno != api.OK {
+		t.Fatalf("P4: error %d", errno)
+	}
+	for _, c := range []struct{ place, next, other int }{
+		{0, 1, 3}, {1, 0, 0}, {2, 3, 3}, {3, 4, 4}, {4, 4, 4}, {-1, 4, 4}, {1<<63 - 1, 4, 4},
+	} {
+		next, other := file.Behind(c.place)
+		if next != c.next || other != c.other {
+			t.Errorf("Behind(%d) = %d, %d, want %d, %d", c.place, next, other, c.next, c.other)
+		}
+	}
+}
+
+func TestLevelOfAVariable(t *testing.T) {
+	file, _ := Open("S\x0211\x30\x31\x03\x01\x00\x01\x00")
+	for _, c := range []struct{ variable, level int }{
+		{0, 1}, {1, 0}, {2, 1}, {3, 0}, {-1, 0}, {1 << 62, 0}, {-1 << 63, 0},
+	} {
+		if level := file.Level(c.variable); level != c.level {
+			t.Errorf("Level(%d) = %d, want %d", c.variable, level, c.level)
+		}
+	}
+}

@@ -129,8 +129,9 @@ func TestP1LongTexts(t *testing.T) {
 		_, join := sluice.Join(table, i, -i)
 		_, meet := sluice.Meet(table, 0, 0)
 		_, scan := sluice.Scan(file)
-		if levels != api.ErrTable || join != api.ErrTable || meet != api.ErrTable || scan != api.ErrLong {
-			t.Fatalf("P1: long texts: %d, %d, %d, %d", levels, join, meet, scan)
+		at, check := sluice.Check(file)
+		if levels != api.ErrTable || join != api.ErrTable || meet != api.ErrTable || scan != api.ErrLong || check != api.ErrLong || at != 0 {
+			t.Fatalf("P1: long texts: %d, %d, %d, %d, %d, %d", levels, join, meet, scan, at, check)
 		}
 		if time.Since(start) > 20*time.Second {
 			t.Fatalf("P1: %d rounds took 20 seconds", i)
@@ -145,6 +146,11 @@ func TestP2NothingIsKept(t *testing.T) {
 	texts := append(randomTexts(2000), spoiledFiles(2000)...)
 	texts = append(texts, "1", pair, "1011", "1001", "1111", diamond, chain6, broad6, pentagon, crossed)
 	texts = append(texts, fileOf("1", ""), fileOf(pair, "\x01", 0, 1, 2, 0), fileOf(diamond, ""))
+	source := rand.New(rand.NewSource(8))
+	for round := 0; round < 1000; round++ {
+		c := randomCode(source, []string{pair, diamond}, 20)
+		texts = append(texts, fileOf(c.table, c.vars, c.text...))
+	}
 	first := []answers{}
 	for _, text := range texts {
 		first = append(first, askAll(text, 0, 1))

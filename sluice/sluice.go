@@ -3,6 +3,7 @@ package sluice
 
 import (
 	"sluice/api"
+	"sluice/check"
 	"sluice/lattice"
 	"sluice/program"
 )
@@ -58,7 +59,13 @@ func Scan(file string) (api.Info, api.Errno) {
 }
 
 // Check tells whether a file is let through (P5).
-func Check(file string) (int, api.Errno) { return 0, api.OK }
+func Check(file string) (int, api.Errno) {
+	parts, errno := program.Open(file)
+	if errno != api.OK {
+		return 0, errno
+	}
+	return check.Judge(parts)
+}
 
 // Run runs a file that is let through (P6).
 func Run(file string, tapes api.Tapes, fuel int) (api.Result, api.Errno) {
