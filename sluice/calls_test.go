@@ -12,11 +12,11 @@ import (
 
 // answers is what all calls say to one text and two numbers.
 type answers struct {
-	levels, join, meet, check, translated, compiled                  int
-	info                                                             api.Info
-	result                                                           api.Result
-	file, checkedFile                                                string
-	eLevels, eJoin, eMeet, eScan, eCheck, eRun, eTranslate, eCompile api.Errno
+	levels, join, meet, check, translated, compiled                           int
+	info                                                                      api.Info
+	result, longer                                                            api.Result
+	file, checkedFile                                                         string
+	eLevels, eJoin, eMeet, eScan, eCheck, eRun, eLonger, eTranslate, eCompile api.Errno
 }
 
 func askAll(text string, a int, b int) answers {
@@ -27,6 +27,7 @@ func askAll(text string, a int, b int) answers {
 	s.info, s.eScan = sluice.Scan(text)
 	s.check, s.eCheck = sluice.Check(text)
 	s.result, s.eRun = sluice.Run(text, api.Tapes{text, "", text}, a)
+	s.longer, s.eLonger = sluice.Run(text, api.Tapes{"\x00\x01", text, text, text}, 500)
 	s.file, s.translated, s.eTranslate = sluice.Translate(text)
 	s.checkedFile, s.compiled, s.eCompile = sluice.Compile(text)
 	return s
@@ -40,6 +41,7 @@ func checkEmpty(t *testing.T, text string, s answers) {
 	bad = bad || s.eMeet != api.OK && s.meet != 0
 	bad = bad || s.eScan != api.OK && s.info != api.Info{}
 	bad = bad || s.eRun != api.OK && s.result != api.Result{}
+	bad = bad || s.eLonger != api.OK && s.longer != api.Result{} || s.eLonger != s.eCheck
 	bad = bad || s.eCheck == api.OK && s.check != 0
 	bad = bad || s.eTranslate != api.OK && s.file != "" || s.eTranslate == api.OK && s.translated != 0
 	bad = bad || s.eCompile != api.OK && s.checkedFile != "" || s.eCompile == api.OK && s.compiled != 0
@@ -130,6 +132,10 @@ func TestP1LongTexts(t *testing.T) {
 		_, meet := sluice.Meet(table, 0, 0)
 		_, scan := sluice.Scan(file)
 		at, check := sluice.Check(file)
+		result, run := sluice.Run(file, api.Tapes{table, file}, i)
+		if run != api.ErrLong || result != (api.Result{}) {
+			t.Fatalf("P1: a long file is run: %+v, %d", result, run)
+		}
 		if levels != api.ErrTable || join != api.ErrTable || meet != api.ErrTable || scan != api.ErrLong || check != api.ErrLong || at != 0 {
 			t.Fatalf("P1: long texts: %d, %d, %d, %d, %d, %d", levels, join, meet, scan, at, check)
 		}

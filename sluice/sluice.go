@@ -5,6 +5,7 @@ import (
 	"sluice/api"
 	"sluice/check"
 	"sluice/lattice"
+	"sluice/machine"
 	"sluice/program"
 )
 
@@ -69,7 +70,18 @@ func Check(file string) (int, api.Errno) {
 
 // Run runs a file that is let through (P6).
 func Run(file string, tapes api.Tapes, fuel int) (api.Result, api.Errno) {
-	return api.Result{}, api.OK
+	parts, errno := program.Open(file)
+	if errno != api.OK {
+		return api.Result{}, errno
+	}
+	_, errno = check.Judge(parts)
+	if errno != api.OK {
+		return api.Result{}, errno
+	}
+	if fuel < 0 || fuel > api.MaxFuel {
+		return api.Result{}, api.ErrNumber
+	}
+	return machine.Run(parts, tapes, fuel), api.OK
 }
 
 // Translate makes a file of a source (P9).

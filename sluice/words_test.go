@@ -204,3 +204,55 @@ func (c code) judge() (int, api.Errno) {
 	}
 	return 0, api.OK
 }
+
+// run is P6, of a file that is let through.
+func (c code) run(tapes api.Tapes, fuel int) api.Result {
+	result := api.Result{End: 2}
+	vars, stack := make([]byte, len(c.vars)), []byte{}
+	place := 0
+	pop := func() byte {
+		value := stack[len(stack)-1]
+		stack = stack[:len(stack)-1]
+		return value
+	}
+	for ; place < c.end() && result.Steps < fuel; result.Steps++ {
+		operation, operand := c.at(place)
+		var a, b byte
+		switch popsOf[operation] {
+		case 2:
+			b = pop()
+			a = pop()
+		case 1:
+			a = pop()
+		}
+		place = c.behind(place)[0]
+		switch operation {
+		case api.Push:
+			stack = append(stack, byte(operand))
+		case api.Load:
+			stack = append(stack, vars[operand])
+		case api.Store:
+			vars[operand] = a
+		case api.Zero:
+			if a == 0 {
+				place = operand
+			}
+		case api.In:
+			stack = append(stack, (tapes[operand] + "\x00")[0])
+			tapes[operand] = tapes[operand][min(1, len(tapes[operand])):]
+		case api.Out:
+			result.Logs[operand] += string([]byte{a})
+		case api.Add, api.Sub, api.Mul, api.Less, api.Same:
+			made := map[byte]byte{api.Add: a + b, api.Sub: a - b, api.Mul: a * b}
+			if operation == api.Less && a < b || operation == api.Same && a == b {
+				made[operation] = 1
+			}
+			stack = append(stack, made[operation])
+		}
+	}
+	if place == c.end() {
+		result.End = 1
+	}
+	result.Vars = string(vars)
+	return result
+}
