@@ -65,6 +65,11 @@ func (t Table) Judge() api.Errno {
 	return api.OK
 }
 
+// Text tells the bytes of the table.
+func (t Table) Text() string {
+	return t.text
+}
+
 // Has tells whether the number is a level of the table.
 func (t Table) Has(level int) bool {
 	return level >= 0 && level < t.Levels

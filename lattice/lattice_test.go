@@ -190,3 +190,11 @@ func TestNoBottom(t *testing.T) {
 		}
 	}
 }
+
+func TestText(t *testing.T) {
+	for _, text := range []string{"1", "0", "1101", "1111010100110001"} {
+		if table, ok := Read(text); !ok || table.Text() != text {
+			t.Errorf("%q: %q, %t", text, table.Text(), ok)
+		}
+	}
+}

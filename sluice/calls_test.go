@@ -95,8 +95,23 @@ func spoiledFiles(count int) []string {
 	return texts
 }
 
+// spoiledSources are sources, some with a few bytes changed, some beyond the bounds.
+func spoiledSources(count int) []string {
+	source := rand.New(rand.NewSource(3))
+	texts := []string{}
+	for len(texts) < count {
+		text := randomTree(source).text(source)
+		if len(texts)%3 > 0 {
+			text = spoiled(source, text)
+		}
+		texts = append(texts, text)
+	}
+	return texts
+}
+
 func TestP1AnyTexts(t *testing.T) {
 	texts := append(randomTexts(20000), spoiledFiles(20000)...)
+	texts = append(texts, spoiledSources(8000)...)
 	for i, text := range texts {
 		a := numbers[i%len(numbers)]
 		b := numbers[i/len(numbers)%len(numbers)]
@@ -125,6 +140,7 @@ func TestP1LongTexts(t *testing.T) {
 	const length = 1 << 26 // a square number, too
 	table := strings.Repeat("1", length)
 	file := "S\x011\x00\x00" + strings.Repeat("\x00", length)
+	sources := []string{table, "1.." + strings.Repeat(" ", length), "1..>0 " + strings.Repeat("0", length)}
 	start := time.Now()
 	for i := 0; i < 20000; i++ {
 		_, levels := sluice.Levels(table)
@@ -139,6 +155,13 @@ func TestP1LongTexts(t *testing.T) {
 		if levels != api.ErrTable || join != api.ErrTable || meet != api.ErrTable || scan != api.ErrLong || check != api.ErrLong || at != 0 {
 			t.Fatalf("P1: long texts: %d, %d, %d, %d, %d, %d", levels, join, meet, scan, at, check)
 		}
+		for _, source := range sources {
+			text, place, translated := sluice.Translate(source)
+			compiled, placeCompiled, errno := sluice.Compile(source)
+			if text+compiled != "" || place != 0 || placeCompiled != 0 || translated != api.ErrLong || errno != api.ErrLong {
+				t.Fatalf("P1: a long source: %q, %q, %d, %d, %d, %d", text, compiled, place, placeCompiled, translated, errno)
+			}
+		}
 		if time.Since(start) > 20*time.Second {
 			t.Fatalf("P1: %d rounds took 20 seconds", i)
 		}
@@ -150,6 +173,7 @@ func TestP1LongTexts(t *testing.T) {
 // The same questions in another order, with others between them, have the same answers.
 func TestP2NothingIsKept(t *testing.T) {
 	texts := append(randomTexts(2000), spoiledFiles(2000)...)
+	texts = append(texts, spoiledSources(2000)...)
 	texts = append(texts, "1", pair, "1011", "1001", "1111", diamond, chain6, broad6, pentagon, crossed)
 	texts = append(texts, fileOf("1", ""), fileOf(pair, "\x01", 0, 1, 2, 0), fileOf(diamond, ""))
 	source := rand.New(rand.NewSource(8))

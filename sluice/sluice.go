@@ -4,9 +4,11 @@ package sluice
 import (
 	"sluice/api"
 	"sluice/check"
+	"sluice/flow"
 	"sluice/lattice"
 	"sluice/machine"
 	"sluice/program"
+	"sluice/translation"
 )
 
 // Levels tells how many levels a table has (P3).
@@ -85,7 +87,26 @@ func Run(file string, tapes api.Tapes, fuel int) (api.Result, api.Errno) {
 }
 
 // Translate makes a file of a source (P9).
-func Translate(source string) (string, int, api.Errno) { return "", 0, api.OK }
+func Translate(source string) (string, int, api.Errno) {
+	draft, place, errno := translation.Open(source)
+	if errno != api.OK {
+		return "", place, errno
+	}
+	return draft.File(), 0, api.OK
+}
 
 // Compile makes a file of a source whose secrets do not run out (P10).
-func Compile(source string) (string, int, api.Errno) { return "", 0, api.OK }
+func Compile(source string) (string, int, api.Errno) {
+	draft, place, errno := translation.Open(source)
+	if errno != api.OK {
+		return "", place, errno
+	}
+	if draft.Height > api.MaxStack {
+		return "", 0, api.ErrStack
+	}
+	place, found := flow.FirstLeak(draft.Table, draft.Statements)
+	if found {
+		return "", place, api.ErrFlow
+	}
+	return draft.File(), 0, api.OK
+}
